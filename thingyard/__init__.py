@@ -1,0 +1,1 @@
+"""Thingyard: a maker of things from things."""
