@@ -39,6 +39,20 @@ OWN_METHODS = set(
     " isupper items join keys ljust lower lstrip partition pop remove replace reverse rfind rjust rpartition"
     " rsplit rstrip setdefault split splitlines startswith strip update upper values zfill bit_length".split()
 )
+ONLY_WALKED = ("zip", "enumerate", "reversed", "range")
+WALKERS = ("list", "tuple", "dict", "sorted", "sum", "any", "all", "enumerate", "zip")
+KEYWORDS = {
+    "sorted": ("key", "reverse"), "min": ("key", "default"), "max": ("key", "default"), "sum": ("start",),
+    "enumerate": ("start",), "zip": ("strict",),
+}
+UNUSED = set(
+    "register mro elements open input version_info with_traceback add_note attrgetter breakpoint builtins compile"
+    " copyright credits delattr dir eval exec exit gc getattr globals hasattr help id importlib license locals"
+    " methodcaller os quit setattr super type vars sys __name__ chr".split()
+)
+VALUES_UNUSED = set(
+    "items keys values pop update append clear extend insert remove reverse setdefault sort args encode format".split()
+)
 UNDERSCORED = ("__init__", "__eq__", "__repr__", "__str__", "__len__")
 UNSAID = (
     r"\b(type|typing|typing_extensions|enum|Enum|IntEnum|StrEnum|Flag|IntFlag|Generic|Protocol|ABC|ABCMeta"
@@ -68,6 +82,52 @@ def bound_names(tree):
         elif isinstance(node, ast.ExceptHandler) and node.name:
             names.append(node.name)
     return names
+
+
+def parents_of(tree):
+    return {child: node for node in ast.walk(tree) for child in ast.iter_child_nodes(node)}
+
+
+def called(node):
+    return node.func.id if isinstance(node, ast.Call) and isinstance(node.func, ast.Name) else None
+
+
+def is_view(node):
+    if called(node) in ONLY_WALKED:
+        return True
+    return (isinstance(node, ast.Call) and isinstance(node.func, ast.Attribute) and not node.args
+            and node.func.attr in ("items", "keys", "values"))
+
+
+def is_walked(node, parent):
+    if isinstance(parent, (ast.For, ast.comprehension)):
+        return parent.iter is node
+    if called(parent) in WALKERS:
+        return parent.args[0] is node or called(parent) == "zip"
+    if called(parent) in ("min", "max"):
+        return parent.args == [node]
+    return (isinstance(parent, ast.Call) and isinstance(parent.func, ast.Attribute) and parent.func.attr == "join"
+            and isinstance(parent.func.value, ast.Constant))
+
+
+def is_set_in_place(node, parents):
+    parent = parents[node]
+    while isinstance(parent, ast.BinOp):
+        node, parent = parent, parents[parent]
+    if called(parent) in ("sorted", "len"):
+        return parent.args == [node] and not parent.keywords
+    return isinstance(parent, ast.Compare)
+
+
+def methods_and_values():
+    methods, values = set(), set()
+    for path, tree in trees():
+        for node in ast.walk(tree):
+            if isinstance(node, ast.ClassDef):
+                methods |= {part.name for part in node.body if isinstance(part, ast.FunctionDef)}
+            if isinstance(node, ast.Attribute) and isinstance(node.ctx, ast.Store):
+                values.add(node.attr)
+    return methods, values
 
 
 def defined_at_top(tree):
@@ -112,6 +172,11 @@ class FilesTest(FormTest):
         for path, node in nodes(ast.ImportFrom):
             for alias in node.names:
                 self.holds(alias.name in defined[node.module.partition(".")[2]], path, node, "L16")
+
+    def test_what_is_for_the_yards_alone(self):
+        for path, node in nodes(ast.ImportFrom):
+            if node.module in ("thingyard.accounts", "thingyard.settling"):
+                self.holds(path.stem in ("settling", "yards"), path, node, "stage 7")
 
     def test_signs_and_sizes(self):
         for path in module_files():
@@ -203,6 +268,101 @@ class RulesTest(FormTest):
                 if isinstance(node, ast.ImportFrom):
                     names += [alias.asname or alias.name for alias in node.names]
             self.assertEqual(len(names), len(set(names)), path.name + " L15")
+
+    def test_no_local_is_called_like_a_class_or_an_import(self):
+        for path, tree in trees():
+            outer = {node.name for node in tree.body if isinstance(node, ast.ClassDef)}
+            for node in tree.body:
+                if isinstance(node, ast.ImportFrom):
+                    outer |= {alias.name for alias in node.names}
+            for name in bound_names(tree):
+                self.holds(name not in outer, path, tree, "L15 " + name)
+
+    def test_no_local_hides_a_def_of_its_file(self):
+        for path, tree in trees():
+            outer = {node.name for node in tree.body if isinstance(node, ast.FunctionDef)}
+            for name in bound_names(tree):
+                self.holds(name not in outer, path, tree, "L15 " + name)
+
+    def test_every_import_is_used(self):
+        for path, tree in trees():
+            used = {node.id for node in ast.walk(tree) if isinstance(node, ast.Name)}
+            for node in tree.body:
+                if isinstance(node, ast.ImportFrom):
+                    for alias in node.names:
+                        self.holds(alias.name in used, path, node, "unused " + alias.name)
+
+    def test_names_that_are_not_used(self):
+        for path, node in nodes(ast.Name):
+            self.holds(node.id not in UNUSED, path, node, "L17 L27")
+        for path, node in nodes(ast.Attribute):
+            self.holds(node.attr not in ("format", "format_map", "mro", "register", "elements", "open", "input"),
+                       path, node, "L8 L17")
+
+    def test_methods_and_values_are_apart(self):
+        methods, values = methods_and_values()
+        self.assertEqual(methods & values, set(), "L18")
+        self.assertEqual(values & VALUES_UNUSED, set(), "L26")
+        own = set(dir(str)) | set(dir(int)) | set(dir(list)) | set(dir(dict)) | set(dir(set)) | set(dir(bytes))
+        self.assertEqual((methods - set(UNDERSCORED)) & own, set(), "L26")
+        self.assertEqual(values & own, set(), "L26")
+
+    def test_views_are_walked_at_once(self):
+        for path, tree in trees():
+            parents = parents_of(tree)
+            for node in ast.walk(tree):
+                if is_view(node):
+                    self.holds(is_walked(node, parents[node]), path, node, "L23")
+
+    def test_what_a_loop_walks_is_not_changed_in_it(self):
+        for path, node in nodes(ast.For):
+            walked = {ast.dump(part) for part in ast.walk(node.iter) if isinstance(part, (ast.Name, ast.Attribute))}
+            for inner in [part for row in node.body for part in ast.walk(row)]:
+                if isinstance(inner, ast.Call) and isinstance(inner.func, ast.Attribute):
+                    changes = inner.func.attr in ("append", "clear", "extend", "insert", "pop", "remove", "reverse",
+                                                  "setdefault", "update")
+                    self.holds(not (changes and ast.dump(inner.func.value) in walked), path, inner, "L23")
+
+    def test_sets_are_not_kept(self):
+        for path, tree in trees():
+            parents = parents_of(tree)
+            for node in ast.walk(tree):
+                if called(node) in ("set", "frozenset") or isinstance(node, ast.Set):
+                    self.holds(is_set_in_place(node, parents), path, node, "L24")
+
+    def test_keywords_at_pythons_own_names(self):
+        for path, node in nodes(ast.Call):
+            if called(node) in OWN_NAMES:
+                for keyword in node.keywords:
+                    self.holds(keyword.arg in KEYWORDS.get(called(node), ()), path, node, "L22")
+
+    def test_methods_are_called_where_they_stand(self):
+        for path, tree in trees():
+            parents = parents_of(tree)
+            for node in ast.walk(tree):
+                if isinstance(node, ast.Attribute) and node.attr in OWN_METHODS:
+                    parent = parents[node]
+                    self.holds(isinstance(parent, ast.Call) and parent.func is node, path, node, "L25")
+
+    def test_pythons_errors_are_not_taken(self):
+        for path, node in nodes(ast.ExceptHandler):
+            names = [part.id for part in ast.walk(node.type) if isinstance(part, ast.Name)]
+            for name in names:
+                self.holds(name == "KeyError" or name not in dir(builtins), path, node, "L19")
+
+    def test_no_annotations(self):
+        for path, node in nodes(ast.arg):
+            self.holds(node.annotation is None, path, node, "L21")
+        for path, node in nodes(ast.FunctionDef):
+            self.holds(node.returns is None, path, node, "L21")
+
+    def test_lists_and_dicts_of_a_files_top_hold_none(self):
+        for path, tree in trees():
+            for node in tree.body:
+                if isinstance(node, ast.Assign):
+                    inner = [part for part in ast.walk(node.value) if isinstance(part, (ast.List, ast.Dict))]
+                    self.holds(inner in ([], [node.value]), path, node, "L15")
+                    self.holds(not [part for part in ast.walk(node.value) if isinstance(part, ast.Call)], path, node, "L3")
 
 
 if __name__ == "__main__":
