@@ -1,6 +1,6 @@
 """Books: rows of rules and mores, read from a text and told as one."""
 
-from thingyard.errors import BadBook, BadRecipe, BadText
+from thingyard.errors import BadBook, BadRecipe, BadText, YardError
 from thingyard.reading import read_recipe
 from thingyard.signs import is_name, is_plain, is_text, words_of
 from thingyard.telling import told_recipe
@@ -67,6 +67,13 @@ def read_book(text):
     if not is_text(text):
         raise BadText("a book is a text")
     return read_rows(text)
+
+
+def book_or_none(text):
+    try:
+        return read_book(text)
+    except YardError:
+        return None
 
 
 def told_book(book):
