@@ -57,6 +57,13 @@ class SettlingTest(unittest.TestCase):
         self.assertEqual(accounts, {"a": (("rule", 'b "-"', None), ("b",), ("text", "x-")), "b": given_account("x")})
         self.assertEqual(rows, [('b "-"', None, (), ("asks", "b")), ('b "-"', None, (("b", "x"),), ("text", "x-"))])
 
+    def test_a_thing_that_is_gone_on_with_is_not_worked_anew(self):
+        accounts, bench = Accounts(), Bench(0)
+        Settling(read_book("a = b c d\nc = b"), {"b": "x", "d": "y"}, accounts, bench).settle("a")
+        self.assertEqual(accounts.kept_of("a")[2], ("text", "xxy"))
+        self.assertEqual([(row[0], len(row[2])) for row in bench.rows],
+                         [("b c d", 0), ("b c d", 1), ("b", 0), ("b", 1), ("b c d", 2), ("b c d", 3)])
+
     def test_rings_and_stops(self):
         accounts, rows = self.settled("a = b\nb = c\nc = b", {}, "a")
         ring = ("ring", ("b", "c"))

@@ -28,6 +28,9 @@ class Accounts:
         return leaners(needs, [name])
 
     def let_go(self, name):
+        # What was asked for has an account of its own: without one nothing leans on it.
+        if name not in self.kept:
+            return
         for leaner in self.leaning_on(name):
             self.kept.pop(leaner)
         # A thing that leans on itself is gone already.

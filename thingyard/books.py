@@ -76,6 +76,17 @@ def book_or_none(text):
         return None
 
 
+# The same texts are read as books again and again: each once here.
+class BookPile:
+    def __init__(self):
+        self.read = {}
+
+    def book_in(self, text):
+        if text not in self.read:
+            self.read[text] = book_or_none(text)
+        return self.read[text]
+
+
 def told_book(book):
     rows = [head + " = " + told_recipe(tree) + "\n" for head, tree in book[0]]
     rows.extend(["more " + name + "\n" for name in book[1]])

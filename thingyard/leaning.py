@@ -6,7 +6,9 @@ def needers_of(needs):
     needers = {}
     for name in needs:
         for needed in needs[name]:
-            needers.setdefault(needed, {})[name] = True
+            if needed not in needers:
+                needers[needed] = {}
+            needers[needed][name] = True
     return needers
 
 

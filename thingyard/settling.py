@@ -1,7 +1,7 @@
 """Settling: things asked for, gone on with as far as they ask for others, and brought to their accounts."""
 
 from thingyard.accounts import given_account, text_in
-from thingyard.books import book_or_none
+from thingyard.books import BookPile
 from thingyard.finding import Search
 from thingyard.rings import ring_from
 from thingyard.shelves import Shelf
@@ -77,12 +77,15 @@ class Making:
     def add_answer(self, name):
         self.answers = self.answers + ((name, self.texts[name]),)
 
-    # The book is that of the text, None where it is none.
-    def hear(self, text, book):
+    def hear(self, text, pile):
         self.texts[self.wanted] = text
-        if self.search.rule is not None:
+        if self.search.rule is None:
+            self.hear_book(pile.book_in(text))
+        else:
             self.add_answer(self.wanted)
-        elif book is None:
+
+    def hear_book(self, book):
+        if book is None:
             self.end = ("fails", "no book")
         else:
             self.search.look_in(book)
@@ -100,7 +103,7 @@ class Settling:
         self.bench = bench
         self.row = []
         self.nexts = {}
-        self.read = {}
+        self.pile = BookPile()
 
     def settle(self, name):
         self.begin(name)
@@ -137,17 +140,9 @@ class Settling:
         if text is None:
             self.finish(("stopped", making.wanted))
             return
-        making.hear(text, self.book_in(making, text))
+        making.hear(text, self.pile)
         if making.end is None:
             self.go_on(making)
-
-    # The same texts are read as books again and again, so what was read is kept for as long as this settling goes on.
-    def book_in(self, making, text):
-        if making.search.rule is not None:
-            return None
-        if text not in self.read:
-            self.read[text] = book_or_none(text)
-        return self.read[text]
 
     # A ring's things are the last ones of the row.
     def close(self, ring):
